@@ -1,0 +1,1 @@
+"""Barsplit: rows of rooms, taken apart into bars."""

@@ -1,0 +1,121 @@
+"""The part of Python that the package keeps to, as far as a test can see it."""
+
+import ast
+import builtins
+import pathlib
+import re
+import unittest
+
+PACKAGE = pathlib.Path(__file__).resolve().parent.parent / "barsplit"
+
+OWN_NAMES = set(
+    "len range enumerate zip min max sum abs sorted reversed int str bool list tuple dict set frozenset "
+    "isinstance ord repr any all divmod Exception ValueError TypeError KeyError IndexError LookupError "
+    "ZeroDivisionError ArithmeticError OverflowError RuntimeError NotImplementedError AttributeError "
+    "StopIteration".split())
+UNDERSCORED = {"__init__", "__eq__", "__repr__", "__str__", "__len__"}
+PARTS_NOT_USED = (
+    ast.With, ast.Match, ast.Delete, ast.Global, ast.Nonlocal, ast.Assert, ast.Yield, ast.YieldFrom,
+    ast.AsyncFunctionDef, ast.AsyncFor, ast.AsyncWith, ast.Await, ast.Div, ast.SetComp, ast.DictComp,
+    ast.GeneratorExp, ast.NamedExpr, ast.Starred, ast.Import, ast.AnnAssign, ast.MatMult)
+WORDS_NOT_USED = re.compile(
+    r"\b(type|typing|typing_extensions|enum|Enum|IntEnum|StrEnum|Flag|IntFlag|Generic|Protocol|ABC|ABCMeta|"
+    r"namedtuple|NamedTuple|TypedDict|TYPE_CHECKING|abstractmethod)\b|dataclass|overload|contextmanager")
+METHODS = set(
+    "append clear copy count endswith extend find get index insert isalnum isalpha isdigit islower isspace "
+    "isupper items join keys ljust lower lstrip partition pop remove replace reverse rfind rjust rpartition "
+    "rsplit rstrip setdefault split splitlines startswith strip update upper values zfill bit_length".split())
+
+
+def files():
+    return sorted(PACKAGE.glob("*.py"))
+
+
+def nodes():
+    for path in files():
+        for node in ast.walk(ast.parse(path.read_text())):
+            yield f"{path.name}:{getattr(node, 'lineno', 0)}", node
+
+
+def defined_names():
+    """Methods and values that the package's own classes and functions have."""
+    names = set()
+    for _, node in nodes():
+        if isinstance(node, ast.FunctionDef):
+            names.add(node.name)
+        if isinstance(node, ast.Attribute) and isinstance(node.ctx, ast.Store):
+            names.add(node.attr)
+    return names
+
+
+class TestLanguage(unittest.TestCase):
+    def test_files(self):
+        self.assertIn(PACKAGE / "__init__.py", files())
+        for path in PACKAGE.iterdir():
+            if path.name != "__pycache__":
+                self.assertRegex(path.name, r"\A[a-z0-9_]+\.py\Z")
+
+    def test_signs_and_sizes(self):
+        for path in files():
+            text = path.read_text()
+            self.assertRegex(text, r"\A[ -~\n]*\Z", path.name)
+            self.assertIsNone(WORDS_NOT_USED.search(text), path.name)
+            lines = text.split("\n")
+            self.assertLessEqual(len(lines), 400, path.name)
+            self.assertLessEqual(max(len(line) for line in lines), 120, path.name)
+
+    def test_functions(self):
+        for where, node in nodes():
+            if isinstance(node, (ast.FunctionDef, ast.ClassDef)):
+                self.assertEqual(node.decorator_list, [], where)
+            if isinstance(node, ast.FunctionDef):
+                self.assertLessEqual(node.end_lineno - node.lineno + 1, 40, where)
+                asked = node.args
+                self.assertFalse(asked.vararg or asked.kwarg or asked.kwonlyargs or asked.posonlyargs, where)
+
+    def test_parts_of_the_language(self):
+        for where, node in nodes():
+            self.assertNotIsInstance(node, PARTS_NOT_USED, where)
+            if isinstance(node, ast.Constant):
+                self.assertIn(type(node.value), (int, str, bool, type(None)), where)
+                self.assertNotIn("%", str(node.value), where)
+            if isinstance(node, ast.ListComp):
+                self.assertEqual(len(node.generators), 1, where)
+                self.assertLessEqual(len(node.generators[0].ifs), 1, where)
+            if isinstance(node, (ast.For, ast.While)):
+                self.assertEqual(node.orelse, [], where)
+            if isinstance(node, ast.Assign):
+                self.assertEqual(len(node.targets), 1, where)
+            if isinstance(node, ast.Try):
+                self.assertEqual(node.finalbody, [], where)
+
+    def test_names(self):
+        for where, node in nodes():
+            if isinstance(node, ast.Name):
+                self.assertRegex(node.id, r"\A[A-Za-z]\w*\Z", where)
+                if hasattr(builtins, node.id):
+                    self.assertIn(node.id, OWN_NAMES, where)
+                    self.assertIsInstance(node.ctx, ast.Load, where)
+            if isinstance(node, ast.arg):
+                self.assertRegex(node.arg, r"\A[A-Za-z]\w*\Z", where)
+                self.assertFalse(hasattr(builtins, node.arg), where)
+            if isinstance(node, ast.FunctionDef) and node.name.startswith("_"):
+                self.assertIn(node.name, UNDERSCORED, where)
+
+    def test_attributes(self):
+        own = defined_names()
+        for where, node in nodes():
+            if isinstance(node, ast.Attribute):
+                self.assertIn(node.attr, METHODS | own | {"__init__"}, where)
+
+    def test_imports(self):
+        for where, node in nodes():
+            if isinstance(node, ast.ImportFrom):
+                self.assertEqual(node.level, 0, where)
+                self.assertRegex(node.module, r"\Abarsplit\.[a-z0-9_]+\Z", where)
+                self.assertTrue((PACKAGE / (node.module.split(".")[1] + ".py")).is_file(), where)
+                self.assertNotIn("*", [name.name for name in node.names], where)
+
+
+if __name__ == "__main__":
+    unittest.main()
