@@ -1,4 +1,4 @@
-"""The part of Python that the package keeps to, as far as a test can see it."""
+"""Some of the rules of the part of Python that the package keeps to: those that are plain to look for."""
 
 import ast
 import builtins
