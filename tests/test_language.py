@@ -48,6 +48,23 @@ def defined_names():
     return names
 
 
+def drawn_by(path):
+    """The modules from which a file draws, each with the names."""
+    return [(node.module.split(".")[1], [name.asname or name.name for name in node.names])
+            for node in ast.parse(path.read_text()).body if isinstance(node, ast.ImportFrom)]
+
+
+def made_at_the_top(path):
+    """The names that a file itself binds at its top, each as often as it does."""
+    names = []
+    for node in ast.parse(path.read_text()).body:
+        if isinstance(node, (ast.FunctionDef, ast.ClassDef)):
+            names.append(node.name)
+        if isinstance(node, ast.Assign):
+            names += [target.id for target in node.targets]
+    return names
+
+
 class TestLanguage(unittest.TestCase):
     def test_files(self):
         self.assertIn(PACKAGE / "__init__.py", files())
@@ -115,6 +132,49 @@ class TestLanguage(unittest.TestCase):
                 self.assertRegex(node.module, r"\Abarsplit\.[a-z0-9_]+\Z", where)
                 self.assertTrue((PACKAGE / (node.module.split(".")[1] + ".py")).is_file(), where)
                 self.assertNotIn("*", [name.name for name in node.names], where)
+
+    def test_names_are_drawn_from_the_file_that_defines_them(self):
+        for path in files():
+            for module, names in drawn_by(path):
+                made = made_at_the_top(PACKAGE / f"{module}.py")
+                for name in names:
+                    self.assertIn(name, made, (path.name, module))
+
+    def test_no_two_files_draw_from_one_another(self):
+        draws = {path.stem: {module for module, _ in drawn_by(path)} for path in files()}
+        while draws:
+            free = [name for name, modules in draws.items() if not modules & set(draws)]
+            self.assertTrue(free, draws)
+            for name in free:
+                del draws[name]
+
+    def test_each_name_once_at_the_top(self):
+        for path in files():
+            bound = made_at_the_top(path) + [name for _, names in drawn_by(path) for name in names]
+            self.assertEqual(sorted(bound), sorted(set(bound)), path.name)
+
+    def test_no_local_is_called_like_a_name_of_the_top(self):
+        for path in files():
+            top = set(made_at_the_top(path)) | {name for _, names in drawn_by(path) for name in names}
+            for made in ast.parse(path.read_text()).body:
+                if isinstance(made, (ast.FunctionDef, ast.ClassDef)):
+                    for node in ast.walk(made):
+                        if isinstance(node, ast.Name) and isinstance(node.ctx, ast.Store):
+                            self.assertNotIn(node.id, top, (path.name, node.lineno))
+                        if isinstance(node, ast.arg):
+                            self.assertNotIn(node.arg, top, (path.name, node.lineno))
+
+    def test_is_stands_beside_none_and_truths_alone(self):
+        for where, node in nodes():
+            if isinstance(node, ast.Compare) and any(isinstance(sign, (ast.Is, ast.IsNot)) for sign in node.ops):
+                values = [part.value for part in node.comparators if isinstance(part, ast.Constant)]
+                self.assertTrue(any(value in (None, True, False) for value in values), where)
+
+    def test_errors_are_taken_by_name(self):
+        for where, node in nodes():
+            if isinstance(node, ast.ExceptHandler):
+                self.assertIsInstance(node.type, ast.Name, where)
+                self.assertNotIn(node.type.id, ("Exception", "TypeError", "ValueError", "LookupError"), where)
 
 
 if __name__ == "__main__":

@@ -8,9 +8,8 @@ from barsplit import spaces
 from barsplit.spaces import back_of, base_of, image, kernel, rank, solved
 from barsplit.tables import nought_table, product, same_table, turned_over
 from tests.helpers import (
-    PRIMES, all_loads, is_base, is_table, plainly_led, some_rows, some_table, span)
+    FORTY, PRIMES, all_loads, is_base, is_table, plainly_led, some_rows, some_table, span)
 
-FORTY = 10 ** 40 - 1
 SIZES = ((0, 0), (0, 2), (2, 0), (1, 1), (1, 3), (3, 1), (2, 2), (2, 3), (3, 2), (3, 3))
 
 

@@ -7,9 +7,8 @@ from barsplit import tables
 from barsplit.errors import NoPrime, NoTable, Nought, SplitError
 from barsplit.tables import (
     added, inverse, led, nought_table, product, same_table, table_of, turned_over)
-from tests.helpers import PRIMES, all_loads, is_table, plainly_led, some_rows, some_table
+from tests.helpers import FORTY, PRIMES, all_loads, is_table, plainly_led, some_rows, some_table
 
-FORTY = 10 ** 40 - 1
 SIZES = ((0, 0), (0, 3), (2, 0), (1, 1), (2, 3), (3, 2), (4, 4))
 
 
