@@ -1,6 +1,6 @@
 """Spaces of loads, told by their bases, and what tables do to them."""
 
-from barsplit.tables import inverse, rests, same_table, turned_over
+from barsplit.tables import inverse, led, rests, same_table, turned_over
 
 
 def lead_of(load):
@@ -37,11 +37,22 @@ def behind_noughts(many, base):
     return [load[many:] for load in base if not any(load[:many])]
 
 
+def led_on(p, table, base):
+    """The base of all loads to which the table leads the loads of the space of this base."""
+    return base_of(p, table[0], [led(p, table, load) for load in base])
+
+
+def led_into(p, table, base):
+    """The base of all loads that the table leads to loads of the space of this base."""
+    # Where (led load less a load of the space, load) begins with noughts, the load is one of these.
+    pairs = [column + unit for column, unit in zip(turned_over(table)[2], same_table(table[1])[2])]
+    free = [load + (0,) * table[1] for load in base]
+    return behind_noughts(table[0], base_of(p, table[0] + table[1], pairs + free))
+
+
 def kernel(p, table):
     """The base of all loads that the table leads to noughts."""
-    # The space of all (where it leads, load) has the kernel behind its noughts.
-    pairs = [column + unit for column, unit in zip(turned_over(table)[2], same_table(table[1])[2])]
-    return behind_noughts(table[0], base_of(p, table[0] + table[1], pairs))
+    return led_into(p, table, [])
 
 
 def image(p, table):

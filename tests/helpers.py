@@ -24,10 +24,27 @@ def some_table(seed, p, high, wide):
     return (high, wide, some_rows(seed, p, high, wide))
 
 
+def all_tables(p, high, wide):
+    for numbers in all_loads(p, high * wide):
+        yield (high, wide, tuple(numbers[i * wide:(i + 1) * wide] for i in range(high)))
+
+
+def units(long):
+    """The base of all loads of so many numbers."""
+    return [tuple(int(i == j) for j in range(long)) for i in range(long)]
+
+
 def plainly_led(p, table, load):
     """Point 5 word by word."""
     high, wide, rows = table
     return tuple(sum(rows[i][j] * load[j] for j in range(wide)) % p for i in range(high))
+
+
+def plainly_product(p, one, other):
+    high, middle, wide = one[0], one[1], other[1]
+    return (high, wide, tuple(
+        tuple(sum(one[2][i][a] * other[2][a][j] for a in range(middle)) % p for j in range(wide))
+        for i in range(high)))
 
 
 def span(p, long, loads):
@@ -59,6 +76,15 @@ def is_base(p, long, loads):
         return False
     # Rests are never below 0, so a sum of 1 leaves 0 for all loads but the lead's own.
     return all(sum(load[lead] for load in loads) == 1 for lead in leads)
+
+
+def all_bases(p, long):
+    """The bases of all spaces of loads of so many numbers."""
+    loads = [load for load in reversed(all_loads(p, long)) if is_base(p, long, [load])]
+    for size in range(long + 1):
+        for base in itertools.combinations(loads, size):
+            if is_base(p, long, list(base)):
+                yield list(base)
 
 
 def is_table(p, table):
@@ -123,6 +149,78 @@ def is_row(row):
         if not is_table(p, arrow[1]) or arrow[1][:2] != (widths[end], widths[begin]):
             return False
     return True
+
+
+def some_turn(seed, p, many):
+    """A square table that has a back, and the back, both put together step by step without the program."""
+    source = random.Random(f"turn {seed} {p} {many}")
+    turn = [[int(i == j) for j in range(many)] for i in range(many)]
+    back = [list(line) for line in turn]
+    for _ in range(4 * many):
+        i, j = source.randrange(many), source.randrange(many)
+        if i != j:
+            much = source.randrange(p)
+            turn[i] = [(x + much * y) % p for x, y in zip(turn[i], turn[j])]
+            for line in back:
+                line[j] = (line[j] - much * line[i]) % p
+        else:
+            much = source.randrange(1, p)
+            turn[i] = [much * x % p for x in turn[i]]
+            for line in back:
+                line[i] = pow(much, -1, p) * line[i] % p
+    return (many, many, tuple(map(tuple, turn))), (many, many, tuple(map(tuple, back)))
+
+
+def some_turns(seed, row):
+    made = [some_turn(f"{seed} {k}", row[0], width) for k, width in enumerate(row[1])]
+    return [turn for turn, _ in made], [back for _, back in made]
+
+
+def plainly_in_turns(row, turns, backs):
+    """Point 12 word by word."""
+    p, widths, arrows = row
+    made = []
+    for k, (way, table) in enumerate(arrows):
+        begin, end = rooms_of(k, way)
+        made.append((way, plainly_product(p, plainly_product(p, turns[end], table), backs[begin])))
+    return (p, widths, tuple(made))
+
+
+def stretches(many):
+    return [(i, j) for i in range(many) for j in range(i, many)]
+
+
+def some_bars(seed, many, together):
+    """Stretches of so many rooms, in a drawn order, whose widths together are just so many."""
+    source = random.Random(f"bars {seed} {many} {together}")
+    bars = []
+    while together:
+        i, j = source.choice([(i, j) for i, j in stretches(many) if j - i < together])
+        # Some come several times.
+        for _ in range(source.choice((1, 1, 2))):
+            if j - i < together:
+                bars.append((i, j))
+                together -= j - i + 1
+    source.shuffle(bars)
+    return bars
+
+
+def plainly_bar_row(p, ways, bars):
+    """Point 19 word by word."""
+    listed = list(enumerate(sorted(bars)))
+    rooms = [[at for at, (i, j) in listed if i <= room <= j] for room in range(len(ways) + 1)]
+    arrows = []
+    for k, way in enumerate(ways):
+        begin, end = (rooms[room] for room in rooms_of(k, way))
+        arrows.append((way, (len(end), len(begin), tuple(tuple(int(x == y) for y in begin) for x in end))))
+    return (p, tuple(len(room) for room in rooms), tuple(arrows))
+
+
+def turned_bars(seed, p, ways, together):
+    """Drawn bars, and their row put in drawn turns, all without the program."""
+    bars = some_bars(seed, len(ways) + 1, together)
+    row = plainly_bar_row(p, ways, bars)
+    return bars, plainly_in_turns(row, *some_turns(seed, row))
 
 
 class Refusing:

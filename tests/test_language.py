@@ -26,6 +26,9 @@ METHODS = set(
     "isupper items join keys ljust lower lstrip partition pop remove replace reverse rfind rjust rpartition "
     "rsplit rstrip setdefault split splitlines startswith strip update upper values zfill bit_length".split())
 
+WALKED = ("zip", "enumerate", "reversed", "range", "items", "keys", "values")
+WALKING = ("list", "tuple", "dict", "sorted", "sum", "any", "all", "enumerate", "zip")
+
 
 def files():
     return sorted(PACKAGE.glob("*.py"))
@@ -46,6 +49,25 @@ def defined_names():
         if isinstance(node, ast.Attribute) and isinstance(node.ctx, ast.Store):
             names.add(node.attr)
     return names
+
+
+def called(node):
+    """The name of the function or method that is called here; None where nothing is."""
+    if not isinstance(node, ast.Call):
+        return None
+    return node.func.id if isinstance(node.func, ast.Name) else node.func.attr
+
+
+def walked_at(node):
+    """What is walked on the spot by this part of a file, as L23 lists it."""
+    if isinstance(node, (ast.For, ast.comprehension)):
+        return [node.iter]
+    name = called(node)
+    if name in WALKING or name in ("min", "max") and len(node.args) == 1:
+        return node.args[:1]
+    if name == "join" and isinstance(node.func.value, ast.Constant):
+        return node.args
+    return []
 
 
 def drawn_by(path):
@@ -169,6 +191,20 @@ class TestLanguage(unittest.TestCase):
             if isinstance(node, ast.Compare) and any(isinstance(sign, (ast.Is, ast.IsNot)) for sign in node.ops):
                 values = [part.value for part in node.comparators if isinstance(part, ast.Constant)]
                 self.assertTrue(any(value in (None, True, False) for value in values), where)
+
+    def test_walks_are_walked_on_the_spot(self):
+        walked = [part for _, node in nodes() for part in walked_at(node)]
+        places = {(part.lineno, part.col_offset, ast.dump(part)) for part in walked}
+        for where, node in nodes():
+            if called(node) in WALKED:
+                self.assertIn((node.lineno, node.col_offset, ast.dump(node)), places, where)
+
+    def test_no_name_is_a_method_and_a_value(self):
+        methods = {part.name for _, node in nodes() if isinstance(node, ast.ClassDef)
+                   for part in node.body if isinstance(part, ast.FunctionDef)}
+        values = {node.attr for _, node in nodes()
+                  if isinstance(node, ast.Attribute) and isinstance(node.ctx, ast.Store)}
+        self.assertEqual(methods & values, set())
 
     def test_errors_are_taken_by_name(self):
         for where, node in nodes():

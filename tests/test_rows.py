@@ -7,37 +7,15 @@ import unittest
 
 from barsplit import rows
 from barsplit.rows import in_turns, one_kind, row_of, ways_of
-from barsplit.spaces import back_of
 from tests.helpers import (
-    FORTY, PRIMES, Refusing, all_kinds, all_loads, is_row, plainly_led, rooms_of, some_row,
-    some_rows_of_rooms, some_table, some_widths)
+    FORTY, PRIMES, Refusing, all_kinds, all_loads, is_row, plainly_led, plainly_product, rooms_of, some_row,
+    some_rows_of_rooms, some_table, some_turns, some_widths)
 
 
 def handed_of(row):
     """The prime, widths and pairs of which a row is made, as lists."""
     p, widths, arrows = row
     return p, list(widths), [(way, [list(line) for line in table[2]]) for way, table in arrows]
-
-
-def plainly_product(p, one, other):
-    high, middle, wide = one[0], one[1], other[1]
-    return (high, wide, tuple(
-        tuple(sum(one[2][i][a] * other[2][a][j] for a in range(middle)) % p for j in range(wide))
-        for i in range(high)))
-
-
-def some_turn(seed, p, many):
-    """A square table that has a back, and the back."""
-    for at in itertools.count():
-        turn = some_table(f"turn {seed} {at}", p, many, many)
-        back = back_of(p, turn)
-        if back is not None:
-            return turn, back
-
-
-def some_turns(seed, row):
-    made = [some_turn(f"{seed} {k}", row[0], width) for k, width in enumerate(row[1])]
-    return [turn for turn, _ in made], [back for _, back in made]
 
 
 class TestMaking(Refusing, unittest.TestCase):
