@@ -30,6 +30,14 @@ def bar_table(end, beginning):
     return (len(end), len(beginning), tuple(rows))
 
 
+def row_of_bars(p, ways, bars):
+    """The row of these stretches of its rooms, however wide it is."""
+    listed = sorted(bars)
+    rooms = [bars_in(listed, room) for room in range(len(ways) + 1)]
+    arrows = [(way, bar_table(rooms[end_of(k, way)], rooms[beginning_of(k, way)])) for k, way in enumerate(ways)]
+    return (p, tuple([len(places) for places in rooms]), tuple(arrows))
+
+
 def bar_row(p, ways, bars):
     """The row of these bars, a list of stretches in any order."""
     if not are_ways(ways):
@@ -37,10 +45,7 @@ def bar_row(p, ways, bars):
     many = len(ways) + 1
     if not all([is_stretch(many, bar) for bar in bars]):
         raise NoRow("a bar is no stretch of these rooms")
-    listed = sorted(bars)
-    rooms = [bars_in(listed, room) for room in range(many)]
-    widths = tuple([len(places) for places in rooms])
-    if sum(widths) > MOST_TOGETHER:
+    # Each bar adds one to the width of each of its rooms.
+    if sum([bar[1] - bar[0] + 1 for bar in bars]) > MOST_TOGETHER:
         raise TooMany("the widths together are more than thirty")
-    arrows = [(way, bar_table(rooms[end_of(k, way)], rooms[beginning_of(k, way)])) for k, way in enumerate(ways)]
-    return (p, widths, tuple(arrows))
+    return row_of_bars(p, ways, bars)

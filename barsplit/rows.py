@@ -1,6 +1,6 @@
 """Rows of rooms: tuples (prime, widths, arrows), each arrow a pair (way, table)."""
 
-from barsplit.errors import NoArrow, NoPrime, NoRow, NoTable, NoWidths
+from barsplit.errors import NoArrow, NoPrime, NoRow, NoTable, NoWidths, Unlike
 from barsplit.tables import is_listed, is_prime, is_whole, product, table_of
 
 MOST_ROOMS = 6
@@ -76,6 +76,12 @@ def ways_of(row):
 def one_kind(one, other):
     """Whether two rows have the same prime and the same ways."""
     return one[0] == other[0] and ways_of(one) == ways_of(other)
+
+
+def ask_one_kind(one, other):
+    """Refuses two rows that are not of one kind."""
+    if not one_kind(one, other):
+        raise Unlike("the rows are not of one kind")
 
 
 def arrow_in_turns(p, k, arrow, turns, backs):

@@ -1,7 +1,7 @@
 """Rows beside one another, cut, mirrored, opposite."""
 
-from barsplit.errors import NoRoom, TooMany, Unlike
-from barsplit.rows import MOST_TOGETHER, is_room, one_kind, other_way
+from barsplit.errors import NoRoom, TooMany
+from barsplit.rows import MOST_TOGETHER, ask_one_kind, is_room, other_way
 from barsplit.tables import turned_over
 
 
@@ -14,8 +14,7 @@ def tables_beside(one, other):
 
 def beside(one, other):
     """The row that has one and, behind its numbers, other in its rooms."""
-    if not one_kind(one, other):
-        raise Unlike("the rows are not of one kind")
+    ask_one_kind(one, other)
     widths = tuple([x + y for x, y in zip(one[1], other[1])])
     if sum(widths) > MOST_TOGETHER:
         raise TooMany("the widths together are more than thirty")

@@ -67,10 +67,20 @@ def product(p, one, other):
     return (one[0], other[1], tuple([led(p, over, row) for row in one[2]]))
 
 
+def added_times(p, one, much, other):
+    """The one table with so many times the other, of its high and wide, added number by number."""
+    rows = [rests(p, [x + much * y for x, y in zip(a, b)]) for a, b in zip(one[2], other[2])]
+    return (one[0], one[1], tuple(rows))
+
+
 def added(p, one, other):
     """The sum, number by number, of two tables of one high and wide."""
-    rows = [rests(p, [x + y for x, y in zip(a, b)]) for a, b in zip(one[2], other[2])]
-    return (one[0], one[1], tuple(rows))
+    return added_times(p, one, 1, other)
+
+
+def less(p, one, other):
+    """The difference, number by number, of two tables of one high and wide."""
+    return added_times(p, one, -1, other)
 
 
 def turned_over(table):

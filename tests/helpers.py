@@ -1,5 +1,6 @@
 """What several tests need: made tables and rows, spaces walked load by load, refusals looked at."""
 
+import functools
 import itertools
 import random
 
@@ -32,6 +33,11 @@ def all_tables(p, high, wide):
 def units(long):
     """The base of all loads of so many numbers."""
     return [tuple(int(i == j) for j in range(long)) for i in range(long)]
+
+
+def units_table(many):
+    """The same table of a size."""
+    return (many, many, tuple(units(many)))
 
 
 def plainly_led(p, table, load):
@@ -186,6 +192,20 @@ def plainly_in_turns(row, turns, backs):
     return (p, widths, tuple(made))
 
 
+def in_some_turns(seed, row):
+    return plainly_in_turns(row, *some_turns(seed, row))
+
+
+def rows_of_all_tables(p, ways, widths):
+    """All rows of these ways and widths."""
+    tables = []
+    for k, way in enumerate(ways):
+        begin, end = rooms_of(k, way)
+        tables.append(list(all_tables(p, widths[end], widths[begin])))
+    for chosen in itertools.product(*tables):
+        yield (p, widths, tuple(zip(ways, chosen)))
+
+
 def stretches(many):
     return [(i, j) for i in range(many) for j in range(i, many)]
 
@@ -216,11 +236,51 @@ def plainly_bar_row(p, ways, bars):
     return (p, tuple(len(room) for room in rooms), tuple(arrows))
 
 
+def turned_row(seed, p, ways, bars):
+    """The row of these bars put in drawn turns, all without the program."""
+    return in_some_turns(seed, plainly_bar_row(p, ways, bars))
+
+
 def turned_bars(seed, p, ways, together):
     """Drawn bars, and their row put in drawn turns, all without the program."""
     bars = some_bars(seed, len(ways) + 1, together)
-    row = plainly_bar_row(p, ways, bars)
-    return bars, plainly_in_turns(row, *some_turns(seed, row))
+    return bars, turned_row(seed, p, ways, bars)
+
+
+def is_way(one, other, tables):
+    """Point 22 word by word."""
+    p, ones, arrows = one
+    if type(tables) is not list or len(tables) != len(ones):
+        return False
+    for wide, high, table in zip(ones, other[1], tables):
+        if not is_table(p, table) or table[:2] != (high, wide):
+            return False
+    for k, (way, table) in enumerate(arrows):
+        begin, end = rooms_of(k, way)
+        if plainly_product(p, tables[end], table) != plainly_product(p, other[2][k][1], tables[begin]):
+            return False
+    return True
+
+
+@functools.lru_cache(None)
+def bar_ways_one_by_one(ways, one, other):
+    """The size of the space of the ways from bar to bar, found by going through all lists of rests by 2."""
+    def has(bar, *rooms):
+        return all(bar[0] <= room <= bar[1] for room in rooms)
+
+    found = 0
+    common = [room for room in range(len(ways) + 1) if has(one, room) and has(other, room)]
+    for numbers in itertools.product((0, 1), repeat=len(common)):
+        there = dict(zip(common, numbers))
+        ends = [(there.get(end, 0) * has(one, begin, end), there.get(begin, 0) * has(other, begin, end))
+                for begin, end in (rooms_of(k, way) for k, way in enumerate(ways))]
+        found += all(left == right for left, right in ends)
+    return found.bit_length() - 1
+
+
+def ways_by_bars(ways, ones, others):
+    """Point 24: the sum over all bars of the one and all bars of the other."""
+    return sum(bar_ways_one_by_one(ways, one, other) for one, other in itertools.product(ones, others))
 
 
 class Refusing:

@@ -10,20 +10,11 @@ from barsplit.barring import barred
 from barsplit.links import numbers
 from barsplit.rows import in_turns, ways_of
 from tests.helpers import (
-    PRIMES, all_kinds, all_tables, is_table, plainly_bar_row, plainly_in_turns, plainly_product, rooms_of,
-    some_row, some_rows_of_rooms, some_widths, stretches, turned_bars, units)
+    PRIMES, all_kinds, is_table, plainly_bar_row, plainly_in_turns, plainly_product, rows_of_all_tables, some_row,
+    some_rows_of_rooms, some_widths, stretches, turned_bars, units_table)
 
 FULL = ((30,), (0, 30), (30, 0), (15, 15), (10, 10, 10), (0, 20, 10), (12, 3, 15), (7, 8, 8, 7), (1, 14, 1, 14),
         (6, 6, 6, 6, 6), (5, 5, 5, 5, 5, 5), (3, 8, 1, 9, 5, 4), (0, 0, 30, 0, 0, 0))
-
-
-def rows_of_all_tables(p, ways, widths):
-    tables = []
-    for k, way in enumerate(ways):
-        begin, end = rooms_of(k, way)
-        tables.append(list(all_tables(p, widths[end], widths[begin])))
-    for chosen in itertools.product(*tables):
-        yield (p, widths, tuple(zip(ways, chosen)))
 
 
 class TestPapers(unittest.TestCase):
@@ -36,7 +27,7 @@ class TestPapers(unittest.TestCase):
         bars, turns, backs = told
         self.assertEqual((len(turns), len(backs)), (len(widths), len(widths)))
         for wide, turn, back in zip(widths, turns, backs):
-            same = (wide, wide, tuple(units(wide)))
+            same = units_table(wide)
             self.assertTrue(is_table(p, turn) and is_table(p, back), (row, told))
             self.assertEqual((turn[:2], back[:2]), ((wide, wide), (wide, wide)))
             self.assertEqual(plainly_product(p, turn, back), same, row)

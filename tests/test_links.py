@@ -9,8 +9,8 @@ import unittest
 from barsplit import links
 from barsplit.links import kept, link, numbers
 from tests.helpers import (
-    PRIMES, all_kinds, all_loads, is_base, plainly_in_turns, plainly_led, plainly_product, rooms_of, some_row,
-    some_rows_of_rooms, some_turns, some_widths, span, stretches, turned_bars, units)
+    PRIMES, all_kinds, all_loads, in_some_turns, is_base, plainly_led, plainly_product, rooms_of, some_row,
+    some_rows_of_rooms, some_widths, span, stretches, turned_bars, units)
 
 # Small enough that all loads of all rooms can be gone through.
 MOST_LOADS = {2: 8, 3: 5, 5: 3, 7: 3}
@@ -203,8 +203,7 @@ class TestNumbers(unittest.TestCase):
     def test_the_same_by_whatever_turns(self):
         for p in PRIMES:
             for row in some_rows_of_rooms(p):
-                turned = plainly_in_turns(row, *some_turns("whatever", row))
-                self.assertEqual(numbers(turned), numbers(row))
+                self.assertEqual(numbers(in_some_turns("whatever", row)), numbers(row))
 
     def test_known_rows(self):
         self.assertEqual(numbers((5, (3,), ())), {(0, 0): 3})

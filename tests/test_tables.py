@@ -6,7 +6,7 @@ import unittest
 from barsplit import tables
 from barsplit.errors import NoPrime, NoTable, Nought, SplitError
 from barsplit.tables import (
-    added, inverse, led, nought_table, product, same_table, table_of, turned_over)
+    added, inverse, led, less, nought_table, product, same_table, table_of, turned_over)
 from tests.helpers import FORTY, PRIMES, all_loads, is_table, plainly_led, some_rows, some_table
 
 SIZES = ((0, 0), (0, 3), (2, 0), (1, 1), (2, 3), (3, 2), (4, 4))
@@ -199,6 +199,15 @@ class TestSums(unittest.TestCase):
         self.assertEqual(added(5, (1, 2, ((3, 4),)), (1, 2, ((4, 1),))), (1, 2, ((2, 0),)))
         self.assertEqual(added(5, (2, 0, ((), ())), (2, 0, ((), ()))), (2, 0, ((), ())))
         self.assertEqual(added(5, (0, 3, ()), (0, 3, ())), (0, 3, ()))
+
+    def test_a_difference_with_the_other_table_added_is_the_one(self):
+        for p in PRIMES:
+            for high, wide in SIZES:
+                one, other = some_table("one", p, high, wide), some_table("other", p, high, wide)
+                told = less(p, one, other)
+                self.assertTrue(is_table(p, told))
+                self.assertEqual(added(p, told, other), one)
+        self.assertEqual(less(5, (1, 2, ((3, 4),)), (1, 2, ((4, 1),))), (1, 2, ((4, 3),)))
 
     def test_noughts_change_nothing(self):
         table = some_table("noughts", 7, 3, 4)
