@@ -1,7 +1,7 @@
 """Rows of bars."""
 
-from barsplit.errors import NoRow, TooMany
-from barsplit.rows import MOST_ROOMS, MOST_TOGETHER, WAYS, beginning_of, end_of, is_room
+from barsplit.errors import NoRow
+from barsplit.rows import MOST_ROOMS, WAYS, ask_together, beginning_of, end_of, is_room
 from barsplit.tables import is_listed
 
 
@@ -46,6 +46,5 @@ def bar_row(p, ways, bars):
     if not all([is_stretch(many, bar) for bar in bars]):
         raise NoRow("a bar is no stretch of these rooms")
     # Each bar adds one to the width of each of its rooms.
-    if sum([bar[1] - bar[0] + 1 for bar in bars]) > MOST_TOGETHER:
-        raise TooMany("the widths together are more than thirty")
+    ask_together([bar[1] - bar[0] + 1 for bar in bars])
     return row_of_bars(p, ways, bars)

@@ -1,6 +1,6 @@
 """Rows of rooms: tuples (prime, widths, arrows), each arrow a pair (way, table)."""
 
-from barsplit.errors import NoArrow, NoPrime, NoRow, NoTable, NoWidths, Unlike
+from barsplit.errors import NoArrow, NoPrime, NoRow, NoTable, NoWidths, TooMany, Unlike
 from barsplit.tables import is_listed, is_prime, is_whole, product, table_of
 
 MOST_ROOMS = 6
@@ -82,6 +82,12 @@ def ask_one_kind(one, other):
     """Refuses two rows that are not of one kind."""
     if not one_kind(one, other):
         raise Unlike("the rows are not of one kind")
+
+
+def ask_together(widths):
+    """Refuses widths that together are more than those of a row."""
+    if sum(widths) > MOST_TOGETHER:
+        raise TooMany("the widths together are more than thirty")
 
 
 def arrow_in_turns(p, k, arrow, turns, backs):

@@ -10,6 +10,8 @@ PRIMES = (2, 3, 5, 7)
 FORTY = 10 ** 40 - 1
 REFUSALS = ("NoPrime", "Nought", "NoTable", "NoWidths", "NoRow", "Unlike", "TooMany",
             "NoTurn", "NoLine", "Nothing", "NoArrow", "NoText", "NoRoom")
+# Small enough that all lists of slants, and all lists of joins, can be gone through.
+MOST_JOINED = {2: 6, 3: 4, 5: 2, 7: 2}
 
 
 def all_loads(p, long):
@@ -281,6 +283,84 @@ def bar_ways_one_by_one(ways, one, other):
 def ways_by_bars(ways, ones, others):
     """Point 24: the sum over all bars of the one and all bars of the other."""
     return sum(bar_ways_one_by_one(ways, one, other) for one, other in itertools.product(ones, others))
+
+
+def ways_in(row):
+    return "".join(way for way, _ in row[2])
+
+
+def join_sizes(under, upper):
+    """The high and the wide of each arrow's join, as point 26 tells them."""
+    rooms = [rooms_of(k, way) for k, way in enumerate(ways_in(under))]
+    return [(under[1][end], upper[1][begin]) for begin, end in rooms]
+
+
+def some_joins(seed, under, upper):
+    return [some_table(f"join {seed} {k}", under[0], *size) for k, size in enumerate(join_sizes(under, upper))]
+
+
+def nought_joins(under, upper):
+    return [(high, wide, ((0,) * wide,) * high) for high, wide in join_sizes(under, upper)]
+
+
+def numbers_of(sizes):
+    return sum(high * wide for high, wide in sizes)
+
+
+def all_lists_of_tables(p, sizes):
+    return [list(tables) for tables in itertools.product(*(list(all_tables(p, *size)) for size in sizes))]
+
+
+def less(p, one, other):
+    return one[:2] + (tuple(tuple((x - y) % p for x, y in zip(a, b)) for a, b in zip(one[2], other[2])),)
+
+
+def slanted(under, upper, slants):
+    """The joins that these slants make fall apart, as point 27 tells them."""
+    p = under[0]
+    made = []
+    for k, way in enumerate(ways_in(under)):
+        begin, end = rooms_of(k, way)
+        made.append(less(p, plainly_product(p, under[2][k][1], slants[begin]),
+                         plainly_product(p, slants[end], upper[2][k][1])))
+    return made
+
+
+def small_pairs(p, seeds):
+    """Rows of one kind between which there are few slants and few joins; rooms are emptied until it is so."""
+    for ways, seed in itertools.product(all_kinds(), range(seeds)):
+        widths = [list(some_widths(f"{side} {seed} {ways}", len(ways) + 1)) for side in ("under", "upper")]
+        rows = None
+        while rows is None or max(numbers_of(join_sizes(*rows)), numbers_of(zip(*widths))) > MOST_JOINED[p]:
+            if rows:
+                wider = max(widths, key=max)
+                wider[wider.index(max(wider))] -= 1
+            rows = [some_row(f"{side} {seed}", p, ways, wide) for side, wide in zip(("under", "upper"), widths)]
+        yield tuple(rows)
+
+
+def wide_pairs(p):
+    """Rows of each kind that together have up to thirty numbers."""
+    for ways in all_kinds():
+        many = len(ways) + 1
+        for seed in range(2):
+            most = 14 // many
+            yield tuple(some_row(f"{side} {seed}", p, ways, some_widths(f"wide {side} {seed} {ways}", many, most))
+                        for side in ("under", "upper"))
+
+
+def turns_of(ways):
+    """The rooms that are an end, and those that are a beginning, as point 29 tells them."""
+    leads = [rooms_of(k, way) for k, way in enumerate(ways)]
+    rooms = range(len(ways) + 1)
+    ends = [room for room in rooms if all(end == room for begin, end in leads if room in (begin, end))]
+    beginnings = [room for room in rooms if all(begin == room for begin, end in leads if room in (begin, end))]
+    return ends, beginnings
+
+
+def turning_rooms(ways):
+    ends, beginnings = turns_of(ways)
+    return sorted(set(ends + beginnings))
 
 
 class Refusing:

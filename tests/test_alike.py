@@ -13,11 +13,7 @@ from barsplit.ways import count_ways
 from tests.helpers import (
     PRIMES, Refusing, all_kinds, all_tables, in_some_turns, is_way, plainly_bar_row, plainly_product,
     rows_of_all_tables, some_bars, some_row, some_rows_of_rooms, some_widths, stretches, turned_row, units_table,
-    ways_by_bars)
-
-
-def ways_in(row):
-    return "".join(way for way, _ in row[2])
+    ways_by_bars, ways_in)
 
 
 def otherwise_cut(seed, bars):

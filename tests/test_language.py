@@ -87,6 +87,19 @@ def made_at_the_top(path):
     return names
 
 
+def is_plain(value, within=False):
+    """Whether a value may stand at the top of a file: numbers, texts, and lists, tuples and dicts of such."""
+    if isinstance(value, (ast.Constant, ast.Name)):
+        return True
+    if isinstance(value, ast.Tuple):
+        return all(is_plain(part, within) for part in value.elts)
+    # A list or a dict holds no other one.
+    if within or not isinstance(value, (ast.List, ast.Dict)):
+        return False
+    parts = value.elts if isinstance(value, ast.List) else value.keys + value.values
+    return all(is_plain(part, True) for part in parts)
+
+
 class TestLanguage(unittest.TestCase):
     def test_files(self):
         self.assertIn(PACKAGE / "__init__.py", files())
@@ -169,6 +182,15 @@ class TestLanguage(unittest.TestCase):
             self.assertTrue(free, draws)
             for name in free:
                 del draws[name]
+
+    def test_plain_values_at_the_top(self):
+        for path in files():
+            first, *others = ast.parse(path.read_text()).body
+            self.assertTrue(isinstance(first, ast.Expr) and isinstance(first.value, ast.Constant), path.name)
+            for node in others:
+                self.assertIsInstance(node, (ast.ImportFrom, ast.FunctionDef, ast.ClassDef, ast.Assign), path.name)
+                if isinstance(node, ast.Assign):
+                    self.assertTrue(is_plain(node.value), (path.name, node.lineno))
 
     def test_each_name_once_at_the_top(self):
         for path in files():
